@@ -1,0 +1,157 @@
+"""Books and values that several tests use."""
+
+from copybooks.books import Book
+
+PARTS = ("states", "ups", "downs", "marks", "wishes", "answers", "tasks", "idles", "busies")
+
+
+def made(parts):
+    """The book of a dict of its parts."""
+    return Book(*[parts[part] for part in PARTS])
+
+
+def example_parts():
+    """The parts of the example of the document, as new lists."""
+    return {
+        "states": [("no", ""), ("ask", "w"), ("own", "hrp")],
+        "ups": [("want", False), ("hand", True)],
+        "downs": [("give", True), ("yield", False)],
+        "marks": ["out", "boss"],
+        "wishes": [("no", "ask", "want")],
+        "answers": [("ask", "give", "own", None), ("own", "yield", "no", "hand")],
+        "tasks": [
+            ("take", [("out", None), ("boss", "yield")], ["out"], ["out", "boss"], "boss", "give", "asker"),
+        ],
+        "idles": [("out", "want", "take")],
+        "busies": [("take", "boss", "hand", "out", None, True)],
+    }
+
+
+def example(**changes):
+    """The example of the document, with some parts replaced."""
+    return made({**example_parts(), **changes})
+
+
+def full_parts():
+    """Parts with an item of every form, some names in several lists."""
+    return {
+        "states": [("no", ""), ("ask", "w"), ("has", "hr"), ("own", "hrp"), ("odd", "hw"), ("out", "w")],
+        "ups": [("want", False), ("hand", True), ("drop", True)],
+        "downs": [("give", True), ("yield", False), ("want", False)],
+        "marks": ["out", "has", "boss"],
+        "wishes": [("no", "ask", "want"), ("has", "no", None), ("own", "no", "hand"), ("no", "ask", "want")],
+        "answers": [("ask", "give", "own", None), ("own", "yield", "no", "hand"), ("has", "yield", "no", "want")],
+        "tasks": [
+            ("take", [("out", None), ("has", "yield"), ("boss", "yield")], ["out", "has"],
+             ["out", "has", "out"], "boss", "give", "asker"),
+            ("look", [("has", "want"), ("has", None), ("boss", "give")], ["out", "has", "boss"],
+             ["boss", "out", "has"], "has", None, "stays"),
+            ("give", [("out", None), ("out", None), ("out", "give")], ["boss"],
+             ["out", "has", "boss"], "out", "yield", "none"),
+        ],
+        "idles": [("out", "want", "take"), ("has", "drop", "out", None, False), ("boss", "hand", "out", "give", True),
+                  ("out", "hand", "look")],
+        "busies": [("take", "boss", "hand", "out", None, True), ("take", "has", "want", "out", "yield", False),
+                   ("look", "boss", "hand", "boss", "give", False)],
+    }
+
+
+def small(**changes):
+    """A book with little in it, with some parts replaced."""
+    parts = {
+        "states": [("no", ""), ("own", "hrp")],
+        "ups": [("want", False)],
+        "downs": [("give", True)],
+        "marks": ["out"],
+        "wishes": [],
+        "answers": [],
+        "tasks": [("take", [("out", None)], ["out"], ["out"], "out", None, "stays")],
+        "idles": [],
+        "busies": [],
+    }
+    return made({**parts, **changes})
+
+
+def nested(value, depth):
+    """The value within so many lists and tuples."""
+    for at in range(depth):
+        value = [value] if at & 1 else (value,)
+    return value
+
+
+def odd_values():
+    """Values of every sort that callers may hand in where something else is due."""
+    book = example()
+    return [
+        None, True, False, 0, 1, -1, 7, 10 ** 30, "", "a", "no such", "toolongname", "Take", "-", "\n", [], (), {},
+        [1], (1,), ["out"], ("out",), ["take", []], {"out": 1}, ("no", ""), [("no", "")], book, [book], (book, 0),
+        nested("out", 30), nested(None, 60),
+    ]
+
+
+class Chance:
+    """Numbers that look random and are the same in each run and under each Python."""
+
+    def __init__(self, seed):
+        self.state = seed * 2654435761 + 12345
+
+    def below(self, many):
+        self.state = (self.state * 6364136223846793005 + 1442695040888963407) % 2 ** 64
+        return (self.state >> 33) % many
+
+    def one_of(self, rows):
+        return rows[self.below(len(rows))]
+
+    def flag(self):
+        return self.below(2) == 1
+
+
+def chance_task(chance, name, marks, downs):
+    """A task of a chance book."""
+    calls = [(chance.one_of(marks), chance.one_of(downs + [None, None])) for _ in marks]
+    quiet = [mark for mark in marks if chance.below(3)] or [marks[0]]
+    ends = [chance.one_of(marks) for _ in marks]
+    return (name, calls, quiet, ends, chance.one_of(marks), chance.one_of(downs + [None]),
+            chance.one_of(["asker", "none", "stays"]))
+
+
+def unlike(rows, many):
+    """The rows without those that begin with as many things as an earlier one."""
+    heads = []
+    found = []
+    for row in rows:
+        if row[:many] not in heads:
+            heads.append(row[:many])
+            found.append(row)
+    return found
+
+
+def chance_idle(chance, marks, ups, downs, tasks):
+    """An item of idles of a chance book."""
+    head = (chance.one_of(marks), chance.one_of(ups))
+    if chance.flag():
+        return head + (chance.one_of(tasks),)
+    return head + (chance.one_of(marks), chance.one_of(downs + [None]), chance.flag())
+
+
+def chance_book(seed):
+    """A book with few of everything, made by chance."""
+    chance = Chance(seed)
+    states = ["a", "b", "c", "d"][:2 + chance.below(3)]
+    ups, downs = ["u", "v", "w"][:1 + chance.below(3)], ["x", "y", "z"][:1 + chance.below(3)]
+    marks, tasks = ["m", "n", "o"][:1 + chance.below(3)], ["s", "t"][:1 + chance.below(2)]
+    traits = ["", "h", "hr", "hrp", "hrp", "w", "hp", "hrpw"]
+    return made({
+        "states": [(name, chance.one_of(traits) if at else "") for at, name in enumerate(states)],
+        "ups": [(name, chance.flag()) for name in ups],
+        "downs": [(name, chance.flag()) for name in downs],
+        "marks": marks,
+        "wishes": [(chance.one_of(states), chance.one_of(states), chance.one_of(ups + [None]))
+                   for _ in range(1 + chance.below(4))] + [("a", chance.one_of(states), chance.one_of(ups))],
+        "answers": unlike([(chance.one_of(states), chance.one_of(downs), chance.one_of(states),
+                            chance.one_of(ups + [None])) for _ in range(6)], 2),
+        "tasks": [chance_task(chance, name, marks, downs) for name in tasks],
+        "idles": unlike([chance_idle(chance, marks, ups, downs, tasks) for _ in range(6)], 2),
+        "busies": unlike([(chance.one_of(tasks), chance.one_of(marks), chance.one_of(ups), chance.one_of(marks),
+                           chance.one_of(downs + [None]), chance.flag()) for _ in range(6)], 3),
+    })

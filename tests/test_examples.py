@@ -1,0 +1,38 @@
+"""The examples of the document that need only what there is, and the example of [35]."""
+
+import unittest
+
+from copybooks.moments import first, played
+from copybooks.searches import reached, run_fault
+from tests.samples import example
+
+
+class TestExamples(unittest.TestCase):
+
+    def test_steps(self):
+        self.assertEqual(first(example(), 2).steps(), [("wish", 0, 0), ("wish", 1, 0)])
+
+    def test_asked_given_put(self):
+        asked = played(first(example(), 2), [("wish", 0, 0), ("take", 0, "want")])
+        self.assertEqual(asked.home(), ("take", "last", None, 0))
+        given = asked.after(("end",))
+        self.assertEqual(given.caches(), [
+            ("ask", "none", "boss", (), (("give", "last"),)), ("no", "none", "out", (), ())])
+        put = played(given, [("answer", 0, "give"), ("put", 0)])
+        self.assertEqual(put.home(), (None, "elder", 0, None))
+        self.assertEqual(put.steps(), [("put", 0), ("wish", 1, 0)])
+
+    def test_searches(self):
+        self.assertEqual(reached(example(), 1), 6)
+        self.assertEqual(run_fault(example(), 2, [("wish", 0, 0), ("wish", 0, 0)]), ("step", 1))
+
+    def test_handing_on(self):
+        run = [("wish", 0, 0), ("take", 0, "want"), ("end",), ("answer", 0, "give"), ("put", 0), ("wish", 1, 0),
+               ("take", 1, "want"), ("answer", 0, "yield"), ("take", 0, "hand"), ("end",), ("answer", 1, "give")]
+        moment = played(first(example(), 2), run)
+        self.assertEqual(moment.home(), (None, "last", 1, None))
+        self.assertEqual(moment.caches(), [("no", "none", "out", (), ()), ("own", "last", "boss", (), ())])
+
+
+if __name__ == "__main__":
+    unittest.main()
