@@ -37,9 +37,8 @@ def shortest(book, n, *, kinds=("stale", "jam", "deaf"), most=3000):
 
 def search(worlds, n, kinds, most):
     """What shortest returns, of arguments that are right."""
+    # Nothing is wrong at a first moment: no state 0 may be read in, no letter is under way, no task is on.
     start = worlds.first_world(n)
-    if worlds.wrong_kind(start, kinds) is not None:
-        return []
     rows = [(start, None, None)]
     met = {class_of(start): True}
     begin = 0

@@ -32,6 +32,28 @@ def example(**changes):
     return made({**example_parts(), **changes})
 
 
+def shared_parts():
+    """The parts of a book that is right, in which several caches may read, or one may put."""
+    return {
+        "states": [("no", ""), ("askread", "w"), ("askput", "w"), ("has", "hr"), ("own", "hrp")],
+        "ups": [("read", False), ("put", False), ("hand", True), ("gone", False)],
+        "downs": [("give", True), ("lend", True), ("leave", False), ("share", False)],
+        "marks": ["out", "has", "boss"],
+        "wishes": [("no", "askread", "read"), ("no", "askput", "put")],
+        "answers": [("askread", "lend", "has", None), ("askput", "give", "own", None), ("has", "leave", "no", "gone"),
+                    ("own", "leave", "no", "hand"), ("own", "share", "has", "hand")],
+        "tasks": [
+            ("reading", [("out", None), ("has", None), ("boss", "share")], ["out", "has"], ["out", "has", "boss"],
+             "has", "lend", "none"),
+            ("putting", [("out", None), ("has", "leave"), ("boss", "leave")], ["out"], ["out", "has", "boss"],
+             "boss", "give", "asker"),
+        ],
+        "idles": [("out", "read", "reading"), ("out", "put", "putting")],
+        "busies": [("reading", "boss", "hand", "has", None, True), ("putting", "has", "gone", "out", None, False),
+                   ("putting", "boss", "hand", "out", None, True)],
+    }
+
+
 def full_parts():
     """Parts with an item of every form, some names in several lists."""
     return {
@@ -155,3 +177,49 @@ def chance_book(seed):
         "busies": unlike([(chance.one_of(tasks), chance.one_of(marks), chance.one_of(ups), chance.one_of(marks),
                            chance.one_of(downs + [None]), chance.flag()) for _ in range(6)], 3),
     })
+
+
+def other_task(chance, task, parts):
+    """The task with one of its things changed."""
+    name, calls, quiet, ends, mark, down, owner = task
+    marks, downs = parts["marks"], [kind for kind, _ in parts["downs"]]
+    at = chance.below(len(marks))
+    place = chance.below(6)
+    if place == 0:
+        calls[at] = (chance.one_of(marks), chance.one_of(downs + [None]))
+    elif place == 1:
+        quiet = [one for one in marks if chance.flag()] or marks[:1]
+    elif place == 2:
+        ends[at] = chance.one_of(marks)
+    elif place == 3:
+        mark = chance.one_of(marks)
+    elif place == 4:
+        down = chance.one_of(downs + [None])
+    else:
+        owner = chance.one_of(["asker", "none", "stays"])
+    return (name, calls, quiet, ends, mark, down, owner)
+
+
+def near_book(seed, parts):
+    """A book that differs from the parts in one item, changed or left out, and in one wish more."""
+    chance = Chance(seed)
+    names = {part: [row[0] for row in parts[part]] for part in ("states", "ups", "downs", "tasks")}
+    part = chance.one_of(["wishes", "answers", "tasks", "idles", "busies", "answers", "busies"])
+    at = chance.below(len(parts[part]))
+    row = parts[part][at]
+    if part == "tasks":
+        parts[part][at] = other_task(chance, row, parts)
+    elif chance.flag():
+        del parts[part][at]
+    elif part == "wishes":
+        parts[part][at] = (row[0], chance.one_of(names["states"]), row[2])
+    elif part == "answers":
+        parts[part][at] = row[:2] + (chance.one_of(names["states"]), chance.one_of(names["ups"] + [None]))
+    elif part == "idles":
+        parts[part][at] = row[:2] + (chance.one_of(parts["marks"]), chance.one_of(names["downs"] + [None]), chance.flag())
+    else:
+        parts[part][at] = row[:3] + (chance.one_of(parts["marks"]), chance.one_of(names["downs"] + [None]), chance.flag())
+    if chance.flag():
+        wish = (chance.one_of(names["states"]), chance.one_of(names["states"]), chance.one_of(names["ups"] + [None]))
+        parts["wishes"].append(wish)
+    return made(parts)

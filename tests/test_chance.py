@@ -7,7 +7,7 @@ from copybooks.errors import NoStep, TooMany
 from copybooks.moments import first
 from copybooks.searches import reached, run_fault, shortest
 from tests import naive
-from tests.samples import Chance, chance_book
+from tests.samples import Chance, chance_book, example_parts, made, near_book, shared_parts
 
 KINDS = ("stale", "jam", "deaf")
 
@@ -16,9 +16,9 @@ CHOICES = [kinds for many in (1, 2, 3) for kinds in itertools.permutations(KINDS
 
 class TestWalks(unittest.TestCase):
 
-    def walk(self, seed, n, many):
+    def walk(self, book, seed, n, many):
         """Compares all that a moment tells along a walk; returns the words of the steps and wrongs met."""
-        book, chance = chance_book(seed), Chance(seed + 1000)
+        chance = Chance(seed + 1000)
         world, moment, words = naive.first_world(book, n), first(book, n), set()
         for _ in range(many):
             self.assertEqual((moment.home(), moment.caches()), naive.told(book, world))
@@ -42,14 +42,20 @@ class TestWalks(unittest.TestCase):
         words = set()
         for seed in range(60):
             for n in (1, 2, 3):
-                words |= self.walk(seed, n, 20)
+                words |= self.walk(chance_book(seed), seed, n, 20)
         self.assertEqual(words, {"wish", "answer", "take", "put", "end", "stale", "deaf", "wish jams", "answer jams",
                                  "take jams", "end jams"})
 
     def test_many_caches(self):
         for seed in range(100, 110):
             for n in (4, 5, 6):
-                self.walk(seed, n, 12)
+                self.walk(chance_book(seed), seed, n, 12)
+
+    def test_books_that_are_nearly_right(self):
+        words = set()
+        for seed in range(30):
+            words |= self.walk(near_book(seed, shared_parts()), seed, 3, 30)
+        self.assertEqual(words & {"stale", "deaf", "end"}, {"stale", "deaf", "end"})
 
 
 class TestSearches(unittest.TestCase):
@@ -65,9 +71,9 @@ class TestSearches(unittest.TestCase):
             with self.assertRaises(TooMany):
                 reached(book, n, most=many - 1)
 
-    def compare_shortest(self, book, n, layers, most, kinds):
+    def compare_shortest(self, book, n, layers, words, most, kinds):
         """Compares the length of the answer, and the bound at its edge; False if there is no telling."""
-        wrong = [any(what[0] in kinds for world in layer for what in naive.wrongs(book, world)) for layer in layers]
+        wrong = [bool(found & set(kinds)) for found in words]
         if True not in wrong and sum(len(layer) for layer in layers) > most:
             return False
         length = wrong.index(True) if True in wrong else None
@@ -82,16 +88,30 @@ class TestSearches(unittest.TestCase):
             self.assertEqual(caught.exception.most, before - 1)
         return True
 
-    def test_searches(self):
-        compared = 0
-        for seed in range(30):
-            book = chance_book(seed)
-            for n in (1, 2, 3):
-                layers = naive.layers(book, n, 50)
-                self.compare_reached(book, n, layers, 50)
-                for kinds in CHOICES:
-                    compared += self.compare_shortest(book, n, layers, 50, kinds)
-        self.assertGreater(compared, 500)
+    def compare(self, book, n, most):
+        """Compares both searches; returns how many answers there were to compare."""
+        layers = naive.layers(book, n, most)
+        self.compare_reached(book, n, layers, most)
+        wrong = [{what[0] for world in layer for what in naive.wrongs(book, world)} for layer in layers]
+        return sum([self.compare_shortest(book, n, layers, wrong, most, kinds) for kinds in CHOICES])
+
+    def test_books_by_chance(self):
+        many = sum([self.compare(chance_book(seed), n, 50) for seed in range(25) for n in (1, 2, 3)])
+        self.assertGreater(many, 500)
+
+    def test_books_that_are_nearly_right(self):
+        many = sum([self.compare(near_book(seed, example_parts()), 2 + seed // 2 % 2, 80) for seed in range(20)])
+        many += sum([self.compare(near_book(seed, shared_parts()), 2, 120) for seed in range(30)])
+        self.assertGreater(many, 500)
+
+    def test_a_right_book(self):
+        book = made(shared_parts())
+        layers = naive.layers(book, 2, 100)
+        self.assertEqual([len(layer) for layer in layers][:3], [1, 2, 5])
+        self.assertEqual(sum(len(layer) for layer in layers), 51)
+        self.assertEqual(reached(book, 2), 51)
+        for n in range(1, 5):
+            self.assertIsNone(shortest(book, n))
 
 
 if __name__ == "__main__":

@@ -270,6 +270,33 @@ class TestDeaf(StepCase):
         # The reply would jam while the call is under way, and to answer the call jams behind the first letter.
         self.assertEqual(moment.wrongs(), [("jam", ("answer", 1, "yield")), ("jam", ("take", 1, "hand")), ("deaf", 1)])
 
+    def test_the_order_in_which_moments_are_asked_plays_no_part(self):
+        parts = {"answers": [("no", "yield", "no", "hand")], "busies": [("take", "boss", "hand", "out", None, False)]}
+        now = self.called(**parts)
+        later = now.after(("answer", 1, "yield"))
+        self.assertNotIn(("deaf", 1), later.wrongs())
+        self.assertNotIn(("deaf", 1), now.wrongs())
+        self.assertNotIn(("deaf", 1), self.called(**parts).wrongs())
+        parts["busies"] = []
+        now = self.called(**parts)
+        self.assertIn(("deaf", 1), now.after(("answer", 1, "yield")).wrongs())
+        self.assertIn(("deaf", 1), now.wrongs())
+
+    def test_rows_that_go_round(self):
+        round_about = [("take", "boss", "hand", "has", "yield", False), ("take", "has", "hand", "boss", "yield", False)]
+        answers = [("no", "yield", "no", "hand")]
+        now = self.called(answers=answers, busies=round_about)
+        run = [("answer", 1, "yield"), ("take", 1, "hand")] * 2
+        self.assertEqual(played(now, run), now)
+        self.assertIn(("deaf", 1), now.wrongs())
+        way_out = ("take", "boss", "want", "out", None, False)
+        self.assertIn(("deaf", 1), self.called(answers=answers, busies=round_about + [way_out]).wrongs())
+        book = self.called(answers=answers, busies=round_about + [way_out]).book()
+        now = played(first(book, 2), [("wish", 1, 0), ("wish", 0, 0), ("take", 0, "want")])
+        for step in run:
+            self.assertNotIn(("deaf", 1), now.wrongs())
+            now = now.after(step)
+
     def test_a_quiet_mark_is_not_deaf(self):
         now = self.called(tasks=[task("take", calls=[("boss", None), ("has", None), ("boss", None)], quiet=["boss"])])
         self.assertEqual(now.wrongs(), [])

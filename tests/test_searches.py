@@ -189,6 +189,17 @@ class TestShortest(unittest.TestCase):
                       idles=[("out", "want", "out", "give", False), ("out", "hand", "out", "give", False)])
         self.check(replied, 1, ("jam",), 3)
 
+    def test_letters_of_the_asker_do_not_jam(self):
+        # Home would reply to the asker's hand with a second give, if it took letters of the asker.
+        book = kit(ups=[("want", False), ("hand", True), ("drop", False)],
+                   wishes=[("no", "ask", "drop"), ("ask", "keep", "want"), ("keep", "own", "hand")],
+                   idles=[("out", "drop", "out", "give", False), ("out", "want", "take")],
+                   tasks=[task("take", quiet=["boss"])], busies=[("take", "out", "hand", "out", "give", False)])
+        self.check(book, 1, ("jam",), None)
+        self.check(book, 2, ("jam",), 7)
+        run = [("wish", 0, 0), ("take", 0, "drop"), ("wish", 0, 1), ("take", 0, "want"), ("wish", 0, 2)]
+        self.assertEqual(run_fault(book, 2, run, kinds=("jam",)), ("good",))
+
     def test_too_many_exactly_at_its_edge(self):
         # With three caches there are 1, 2, 3 .. classes by 0, 1, 2 .. steps: how many of them want.
         book = kit(states=[("no", ""), ("ask", ""), ("keep", "")],
