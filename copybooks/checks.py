@@ -1,6 +1,6 @@
 """What is an integer, a name, a step, and the checks of the arguments that many functions have."""
 
-from copybooks.errors import NoKinds, NoMany, NoMost
+from copybooks.errors import NoKinds, NoMany, NoMost, NoViews
 
 LETTERS = "abcdefghijklmnopqrstuvwxyz"
 
@@ -59,3 +59,9 @@ def check_most(most):
     """Raises NoMost unless the value is a bound from 1 to 20000."""
     if not is_integer(most, 1, 20000):
         raise NoMost()
+
+
+def check_views(k):
+    """Raises NoViews unless the value is a number of others that views may have."""
+    if not is_integer(k, 1, 3):
+        raise NoViews()

@@ -29,14 +29,14 @@ class Moment:
 
     def steps(self):
         """The list of all steps that can be taken and do not jam."""
-        return [step for step, behind in self._worlds.moves(self._world) if behind is not None]
+        return [step for step, _ in self._worlds.free_moves(self._world)]
 
     def after(self, step):
         """The moment behind a step."""
         if not is_step(step):
             raise NoStep()
-        for other, behind in self._worlds.moves(self._world):
-            if other == step and behind is not None:
+        for other, behind in self._worlds.free_moves(self._world):
+            if other == step:
                 return Moment(self._book, self._worlds, behind)
         raise NoStep()
 

@@ -38,9 +38,13 @@ def shortest(book, n, *, kinds=("stale", "jam", "deaf"), most=3000):
 def search(worlds, n, kinds, most):
     """What shortest returns, of arguments that are right."""
     # Nothing is wrong at a first moment: no state 0 may be read in, no letter is under way, no task is on.
-    start = worlds.first_world(n)
+    return search_from(worlds, worlds.first_world(n), kinds, most, False)
+
+
+def search_from(worlds, start, kinds, most, apart):
+    """A shortest run from a world at which nothing is wrong; apart tells alike worlds from one another."""
     rows = [(start, None, None)]
-    met = {class_of(start): True}
+    met = {start if apart else class_of(start): True}
     begin = 0
     while begin < len(rows):
         # The bound is looked at between layers only: it counts what takes fewer steps than the answer.
@@ -48,9 +52,10 @@ def search(worlds, n, kinds, most):
             raise TooMany(most)
         end = len(rows)
         for at in range(begin, end):
-            moves = worlds.class_moves(rows[at][0])
+            world = rows[at][0]
+            moves = worlds.free_moves(world) if apart else worlds.class_moves(world)
             for step, behind in moves:
-                key = class_of(behind)
+                key = behind if apart else class_of(behind)
                 if key in met:
                     continue
                 met[key] = True

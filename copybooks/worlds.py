@@ -46,7 +46,7 @@ class Worlds:
 
     def first_world(self, n):
         """The first world of n caches."""
-        return (None, "last", (FLAGS * self._number(self._rules.first_local()),) * n)
+        return (None, "last", (FLAGS * self.number(self._rules.first_local()),) * n)
 
     def home(self, world):
         """The tuple (task, memory, owner, asker)."""
@@ -57,10 +57,33 @@ class Worlds:
         """The list of the locals."""
         return [self._local(cell) for cell in world[2]]
 
+    def world_of(self, view):
+        """The world that has just the caches of a view: its asker, its owner, its others."""
+        (task, memory, owner, asker), others = view
+        cells = []
+        if asker is not None:
+            cells.append(FLAGS * self.number(asker) + ASKS + (OWNS if owner == "asker" else 0))
+        if owner is not None and owner != "asker":
+            cells.append(FLAGS * self.number(owner) + OWNS)
+        cells.extend([FLAGS * self.number(local) for local in others])
+        return (task, memory, tuple(cells))
+
+    def view_of(self, world):
+        """The view that has all caches of the world."""
+        task, memory, owner, asker = self.home(world)
+        locals_here = self.caches(world)
+        others = [local for i, local in enumerate(locals_here) if i not in (owner, asker)]
+        if owner is not None:
+            owner = "asker" if owner == asker else locals_here[owner]
+        if asker is not None:
+            asker = locals_here[asker]
+        return ((task, memory, owner, asker), tuple(sorted(others)))
+
     def _local(self, cell):
         return self._known[cell // FLAGS]
 
-    def _number(self, local):
+    def number(self, local):
+        """The number of the local; None for what came of a jam."""
         if local is None:
             return None
         if local not in self._numbers:
@@ -72,8 +95,12 @@ class Worlds:
         """The list of (step, world behind it) for each step that can be taken, in the order of steps()."""
         found = []
         for i in range(len(world[2])):
-            found.extend(self._cache_moves(world, i))
+            found.extend(self.cache_moves(world, i))
         return found + self._end_moves(world)
+
+    def free_moves(self, world):
+        """Like moves, but without jams."""
+        return [move for move in self.moves(world) if move[1] is not None]
 
     def class_moves(self, world):
         """Like moves, but without jams, and of several caches with equal cells only by the first one."""
@@ -81,10 +108,11 @@ class Worlds:
         found = []
         for i, cell in enumerate(cells):
             if cell not in cells[:i]:
-                found.extend(self._cache_moves(world, i))
+                found.extend(self.cache_moves(world, i))
         return [move for move in found + self._end_moves(world) if move[1] is not None]
 
-    def _cache_moves(self, world, i):
+    def cache_moves(self, world, i):
+        """Like moves, but the steps of cache i alone."""
         task, memory, cells = world
         number, flags = cells[i] // FLAGS, cells[i] % FLAGS
         found = []
@@ -110,7 +138,7 @@ class Worlds:
         if key not in self._kept:
             local = self._known[number]
             rows = self._rules.wish_moves(local) + self._rules.answer_moves(local)
-            self._kept[key] = [(word, at, self._number(goal)) for word, at, goal in rows]
+            self._kept[key] = [(word, at, self.number(goal)) for word, at, goal in rows]
         return self._kept[key]
 
     def _takes(self, number, task, flags, memory):
@@ -119,7 +147,7 @@ class Worlds:
         if key not in self._kept:
             rows = self._rules.take_moves(self._known[number], task, flags & OWNS > 0, memory)
             self._kept[key] = [
-                (up, begun, self._number(goal), given, OWNS if owns else 0)
+                (up, begun, self.number(goal), given, OWNS if owns else 0)
                 for up, begun, goal, given, owns in rows
             ]
         return self._kept[key]
@@ -131,30 +159,32 @@ class Worlds:
             if at == i:
                 found.append(asker)
                 continue
-            goal = self._called(cell // FLAGS, task, memory)
+            goal = self.number_called(cell // FLAGS, task, memory)
             if goal is None:
                 return None
             found.append(FLAGS * goal + cell % FLAGS)
         return (task, memory, tuple(found))
 
-    def _called(self, number, task, memory):
+    def number_called(self, number, task, memory):
+        """What becomes of another cache when the task begins; None for a jam."""
         key = ("call", number, task, memory)
         if key not in self._kept:
-            self._kept[key] = self._number(self._rules.called(self._known[number], task, memory))
+            self._kept[key] = self.number(self._rules.called(self._known[number], task, memory))
         return self._kept[key]
 
     def _put(self, world, i):
         """The world behind a put of cache i."""
         task, memory, cells = world
-        older = [FLAGS * self._aged(cell // FLAGS) + cell % FLAGS for cell in cells]
+        older = [FLAGS * self.number_aged(cell // FLAGS) + cell % FLAGS for cell in cells]
         state, _, mark, ups, downs = self._local(older[i])
-        older[i] = FLAGS * self._number((state, "last", mark, ups, downs)) + older[i] % FLAGS
+        older[i] = FLAGS * self.number((state, "last", mark, ups, downs)) + older[i] % FLAGS
         return (task, "elder" if memory == "last" else memory, tuple(older))
 
-    def _aged(self, number):
+    def number_aged(self, number):
+        """What becomes of another cache when a cache puts."""
         key = ("aged", number)
         if key not in self._kept:
-            self._kept[key] = self._number(aged(self._known[number]))
+            self._kept[key] = self.number(aged(self._known[number]))
         return self._kept[key]
 
     def _end_moves(self, world):
@@ -179,17 +209,23 @@ class Worlds:
             self._kept[key] = self._ended_anew(cell, task, memory)
         return self._kept[key]
 
+    def number_ended(self, number, task):
+        """What becomes of another cache, neither owner nor asker, when the task ends; None if it is not quiet."""
+        # Home gives its memory to the asker alone.
+        goal = self._ended(FLAGS * number, task, "none")
+        return None if goal == "loud" else goal // FLAGS
+
     def _ended_anew(self, cell, task, memory):
         local = self._local(cell)
         word = self._rules.owner_behind(task)
         owns = cell & OWNS if word == "stays" else 0
         if cell & ASKS:
-            goal = self._number(self._rules.served(local, task, memory))
+            goal = self.number(self._rules.served(local, task, memory))
             owns = OWNS if word == "asker" else owns
             return None if goal is None else FLAGS * goal + owns
         if not self._rules.is_quiet(local, task):
             return "loud"
-        return FLAGS * self._number(self._rules.ended(local, task)) + owns
+        return FLAGS * self.number(self._rules.ended(local, task)) + owns
 
     def _has_trait(self, number, trait):
         key = ("trait", number, trait)

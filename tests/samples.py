@@ -223,3 +223,105 @@ def near_book(seed, parts):
         wish = (chance.one_of(names["states"]), chance.one_of(names["states"]), chance.one_of(names["ups"] + [None]))
         parts["wishes"].append(wish)
     return made(parts)
+
+
+def waiting_parts(marks, tasks, idles):
+    """The parts of a book whose caches ask, and wait until they are served: all that may go wrong is in the marks.
+
+    The tasks are tuples (name, marks of the calls, quiet marks, ends, mark): strings of marks of one letter.
+    """
+    return {
+        "states": [("no", ""), ("ask", "w")],
+        "ups": [("want", False)],
+        "downs": [("done", False)],
+        "marks": list(marks),
+        "wishes": [("no", "ask", "want")],
+        "answers": [("ask", "done", "no", None)],
+        "tasks": [(name, [(mark, None) for mark in calls], list(quiet), list(ends), mark, "done", "none")
+                  for name, calls, quiet, ends, mark in tasks],
+        "idles": [(mark, "want", name) for mark, name in idles],
+        "busies": [],
+    }
+
+
+def right_by_two():
+    """A book whose views of 2 close without being bad, and are fewer than those of 1, which are bad."""
+    return made(waiting_parts("abcde", [("s", "bdeeb", "be", "abcdc", "d")], [("a", "s"), ("c", "s"), ("e", "s")]))
+
+
+def right_by_three():
+    """A book whose views of 3 close without being bad; those of 1 and of 2 are bad."""
+    tasks = [("s", "bcdac", "bcde", "abcde", "c"), ("t", "abade", "abc", "ebada", "e")]
+    return made(waiting_parts("abcde", tasks, [("a", "s"), ("b", "s"), ("d", "t")]))
+
+
+def wrong_by_four():
+    """A book in which it takes four caches to come to something wrong."""
+    tasks = [("s", "abddad", "abcef", "abcdbf", "f"), ("t", "ebcdcf", "abcdef", "abfdef", "b")]
+    return made(waiting_parts("abcdef", tasks, [("a", "t"), ("d", "s"), ("e", "s"), ("f", "t")]))
+
+
+def wrong_by_five():
+    """A book in which it takes five caches to come to something wrong."""
+    tasks = [("s", "eadacb", "ade", "abcdef", "c"), ("t", "cbceaf", "abcdef", "ebcdea", "c"),
+             ("u", "abcded", "abcdef", "bbadef", "c")]
+    return made(waiting_parts("abcdef", tasks, [("a", "u"), ("b", "s"), ("e", "u"), ("f", "t")]))
+
+
+def putting():
+    """A book in which each cache may put by a wish of its own, none reads, and home does nothing."""
+    return small(states=[("no", ""), ("own", "hp")], wishes=[("no", "own", None), ("own", "no", None)])
+
+
+def called_twice():
+    """A book in which nobody answers a call, so that a task that begins jams beside a cache called before."""
+    return small(states=[("no", ""), ("ask", "w")], downs=[("done", False), ("call", False)],
+                 wishes=[("no", "ask", "want")], answers=[("ask", "done", "no", None)],
+                 tasks=[("take", [("out", "call")], ["out"], ["out"], "out", "done", "stays")],
+                 idles=[("out", "want", "take")])
+
+
+def both_become_others():
+    """A right book in which an owner and an asker become others by one step, and no others are ever like both."""
+    parts = waiting_parts(["out", "boss", "old", "seen"], [], [])
+    calls = [("out", None), ("boss", None), ("out", None), ("out", None)]
+    parts["ups"].append(("take", False))
+    parts["wishes"].append(("no", "ask", "take"))
+    parts["idles"] = [("out", "want", "look"), ("out", "take", "take")]
+    quiet = ["out", "boss", "old", "seen"]
+    parts["tasks"] = [("look", calls, quiet, ["out", "old", "old", "seen"], "seen", "done", "none"),
+                      ("take", calls, quiet, ["out", "old", "old", "seen"], "boss", "done", "asker")]
+    return made(parts)
+
+
+def told_by_calls():
+    """A right book in which each task that begins sends the memory to all others, and nobody reads it."""
+    parts = waiting_parts(["out", "wait"], [], [])
+    parts["states"].append(("own", "hp"))
+    parts["ups"].append(("heard", False))
+    parts["downs"].append(("tell", True))
+    parts["wishes"] += [("no", "own", None), ("own", "no", None)]
+    parts["answers"] += [(state, "tell", state, "heard") for state in ("no", "ask", "own")]
+    parts["tasks"] = [("take", [("wait", "tell"), ("wait", "tell")], ["out"], ["out", "out"], "out", "done", "none")]
+    parts["idles"] = [("out", "want", "take")]
+    parts["busies"] = [("take", "wait", "heard", "out", None, False)]
+    return made(parts)
+
+
+def renamed_parts(parts, names=None):
+    """The parts with other names in the same places; if none are told, in another order of the alphabet."""
+    if names is None:
+        met = [row if part == "marks" else row[0] for part in ("states", "ups", "downs", "marks", "tasks")
+               for row in parts[part]]
+        names = {name: "z" + "".join(chr(219 - ord(letter)) for letter in name)[:7] for name in met}
+
+    def changed(value):
+        if isinstance(value, (list, tuple)):
+            return type(value)(changed(one) for one in value)
+        return names.get(value, value) if isinstance(value, str) else value
+
+    found = {part: changed(rows) for part, rows in parts.items()}
+    # Traits and words for owners are no names.
+    found["states"] = [(row[0], old[1]) for row, old in zip(found["states"], parts["states"])]
+    found["tasks"] = [row[:6] + old[6:] for row, old in zip(found["tasks"], parts["tasks"])]
+    return found

@@ -5,7 +5,7 @@ import inspect
 import os
 import unittest
 
-from copybooks import books, errors, moments, searches
+from copybooks import basejudge, books, deciding, errors, moments, searches, viewjudge, views
 
 HERE = os.path.dirname(os.path.dirname(os.path.abspath(__file__)))
 
@@ -16,6 +16,13 @@ FUNCTIONS = {
         "shortest": "(book, n, *, kinds=('stale', 'jam', 'deaf'), most=3000)",
         "fewest": "(book, *, kinds=('stale', 'jam', 'deaf'), caches=3, most=3000)",
         "run_fault": "(book, n, thing, *, kinds=('stale', 'jam', 'deaf'))",
+    },
+    "views": {"views": "(book, k, *, most=3000)"},
+    "viewjudge": {"closed_fault": "(book, k, thing)"},
+    "deciding": {"decide": "(book, *, caches=3, most=3000)"},
+    "basejudge": {
+        "harm": "(book, bag, *, most=3000)",
+        "base_fault": "(book, thing, runs, *, most=2000)",
     },
 }
 
@@ -36,7 +43,10 @@ METHODS = {
     },
 }
 
-MODULES = {"books": books, "errors": errors, "moments": moments, "searches": searches}
+MODULES = {
+    "basejudge": basejudge, "books": books, "deciding": deciding, "errors": errors, "moments": moments,
+    "searches": searches, "viewjudge": viewjudge, "views": views,
+}
 
 
 def defined(module):
