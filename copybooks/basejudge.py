@@ -2,12 +2,12 @@
 
 from copybooks.bags import Bags
 from copybooks.checks import KINDS, check_most
-from copybooks.closing import Closing
 from copybooks.controls import Controls
 from copybooks.errors import NoRun
+from copybooks.fitting import Fitting
 from copybooks.forms import Forms, check_bag
 from copybooks.moments import Moment, played
-from copybooks.searches import search_from
+from copybooks.runs import itself, shortest_run
 from copybooks.worlds import Worlds
 
 
@@ -19,7 +19,9 @@ def harm(book, bag, *, most=3000):
     start = worlds.world_of(bag)
     if worlds.wrong_kind(start, KINDS) is not None:
         return []
-    return search_from(worlds, start, KINDS, most, True)
+    return shortest_run(
+        start, worlds.free_moves, itself, lambda world: worlds.wrong_kind(world, KINDS) is not None, most,
+    )
 
 
 def base_fault(book, thing, runs, *, most=2000):
@@ -28,8 +30,7 @@ def base_fault(book, thing, runs, *, most=2000):
     if not Forms(book).are_bags(thing) or not are_runs(runs, len(thing)):
         return ("form",)
     controls = Controls(book)
-    singles = Closing(controls, 1, most).singles()
-    bags = Bags(controls, singles, [controls.read(bag) for bag in thing])
+    bags = Bags(Fitting(controls, most), [controls.read(bag) for bag in thing])
     worlds = Worlds(book)
     for index, bag in enumerate(thing):
         if not bags.fits(index):

@@ -4,6 +4,9 @@ from copybooks.checks import is_name
 
 PARTS = ("states", "ups", "downs", "marks", "wishes", "answers", "tasks", "idles", "busies")
 
+# The parts whose items tell what caches and home do, one thing each.
+RULES = ("wishes", "answers", "idles", "busies")
+
 NAMED = ("states", "ups", "downs", "tasks")
 
 TRAITS = ("", "h", "hr", "hp", "hrp", "w", "hw", "hrw", "hpw", "hrpw")
@@ -172,6 +175,11 @@ def names_in(part, rows):
     if part == "marks":
         return list(rows)
     return [row[0] for row in rows] if part in NAMED else []
+
+
+def names_of(parts):
+    """The names that items may tell of, by the parts that have them; the parts are a dict of right ones."""
+    return {part: names_in(part, rows) for part, rows in parts.items()}
 
 
 def wrong_part(parts):

@@ -1,6 +1,6 @@
 """Books of rules: what caches and home do with one line."""
 
-from copybooks.bookparts import copied_tasks, wrong_part
+from copybooks.bookparts import PARTS, copied_tasks, wrong_part
 from copybooks.errors import NoBook
 
 
@@ -63,3 +63,18 @@ class Book:
 
     def __eq__(self, other):
         return isinstance(other, Book) and self._parts == other._parts
+
+
+def parts_of(book):
+    """A dict from the name of each part of the book to the list of its items."""
+    return {
+        "states": book.states(), "ups": book.ups(), "downs": book.downs(), "marks": book.marks(),
+        "wishes": book.wishes(), "answers": book.answers(), "tasks": book.tasks(),
+        "idles": book.idles(), "busies": book.busies(),
+    }
+
+
+def book_of(parts):
+    """The book of a dict of its parts."""
+    rows = [parts[part] for part in PARTS]
+    return Book(*rows)

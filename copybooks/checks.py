@@ -11,9 +11,14 @@ MOST_CACHES = 6
 MOST_INDEX = 29
 
 
+def is_whole(value):
+    """Whether the value is an integer of any size; a flag is none."""
+    return isinstance(value, int) and not isinstance(value, bool)
+
+
 def is_integer(value, least, greatest):
-    """Whether the value is an integer of this range; a flag is none."""
-    return isinstance(value, int) and not isinstance(value, bool) and least <= value <= greatest
+    """Whether the value is an integer of this range."""
+    return is_whole(value) and least <= value <= greatest
 
 
 def is_name(value):

@@ -77,6 +77,10 @@ class Controls:
         task, memory, cells = self._known[control]
         return (task, memory, cells + tuple([FLAGS * number for number in others]))
 
+    def size(self, control):
+        """How many caches the control tells of: the asker and the owner."""
+        return len(self._known[control][2])
+
     def first_view(self, many):
         """The control of the first moment of so many caches, and its others."""
         return self.parted(self._worlds.first_world(many))
@@ -84,6 +88,10 @@ class Controls:
     def read(self, view):
         """The control and the others of a view that is told by locals."""
         return self.parted(self._worlds.world_of(view))
+
+    def read_moment(self, home, rows):
+        """The control and the others of a moment that is told by its home and its locals."""
+        return self.parted(self._worlds.world_at(home, rows))
 
     def told(self, control, others):
         """The view, told by locals."""

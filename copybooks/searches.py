@@ -3,6 +3,7 @@
 from copybooks.checks import check_kinds, check_many, check_most
 from copybooks.errors import NoStep, TooMany
 from copybooks.moments import first
+from copybooks.runs import shortest_run
 from copybooks.worlds import Worlds, class_of
 
 
@@ -38,41 +39,10 @@ def shortest(book, n, *, kinds=("stale", "jam", "deaf"), most=3000):
 def search(worlds, n, kinds, most):
     """What shortest returns, of arguments that are right."""
     # Nothing is wrong at a first moment: no state 0 may be read in, no letter is under way, no task is on.
-    return search_from(worlds, worlds.first_world(n), kinds, most, False)
-
-
-def search_from(worlds, start, kinds, most, apart):
-    """A shortest run from a world at which nothing is wrong; apart tells alike worlds from one another."""
-    rows = [(start, None, None)]
-    met = {start if apart else class_of(start): True}
-    begin = 0
-    while begin < len(rows):
-        # The bound is looked at between layers only: it counts what takes fewer steps than the answer.
-        if len(rows) > most:
-            raise TooMany(most)
-        end = len(rows)
-        for at in range(begin, end):
-            world = rows[at][0]
-            moves = worlds.free_moves(world) if apart else worlds.class_moves(world)
-            for step, behind in moves:
-                key = behind if apart else class_of(behind)
-                if key in met:
-                    continue
-                met[key] = True
-                rows.append((behind, at, step))
-                if worlds.wrong_kind(behind, kinds) is not None:
-                    return run_to(rows, len(rows) - 1)
-        begin = end
-    return None
-
-
-def run_to(rows, at):
-    """The steps that lead to the row, each row being (world, index of the row ahead of it, step)."""
-    run = []
-    while rows[at][1] is not None:
-        run.append(rows[at][2])
-        at = rows[at][1]
-    return run[::-1]
+    return shortest_run(
+        worlds.first_world(n), worlds.class_moves, class_of,
+        lambda world: worlds.wrong_kind(world, kinds) is not None, most,
+    )
 
 
 def fewest(book, *, kinds=("stale", "jam", "deaf"), caches=3, most=3000):

@@ -1,7 +1,7 @@
 """Worlds: the steps of a book over all its caches at once."""
 
 from copybooks.deafness import Deafness
-from copybooks.rules import Rules, aged
+from copybooks.rules import Rules, aged, blank
 
 ASKS = 1
 
@@ -68,6 +68,15 @@ class Worlds:
         cells.extend([FLAGS * self.number(local) for local in others])
         return (task, memory, tuple(cells))
 
+    def world_at(self, home, rows):
+        """The world whose home and locals a moment tells."""
+        task, memory, owner, asker = home
+        cells = [
+            FLAGS * self.number(local) + (OWNS if i == owner else 0) + (ASKS if i == asker else 0)
+            for i, local in enumerate(rows)
+        ]
+        return (task, memory, tuple(cells))
+
     def view_of(self, world):
         """The view that has all caches of the world."""
         task, memory, owner, asker = self.home(world)
@@ -111,8 +120,22 @@ class Worlds:
                 found.extend(self.cache_moves(world, i))
         return [move for move in found + self._end_moves(world) if move[1] is not None]
 
+    def calm_moves(self, world):
+        """Like moves, but without jams, wishes and puts."""
+        found = []
+        for i in range(len(world[2])):
+            found.extend([move for move in self._letter_moves(world, i) if move[0][0] != "wish"])
+        return [move for move in found + self._end_moves(world) if move[1] is not None]
+
     def cache_moves(self, world, i):
         """Like moves, but the steps of cache i alone."""
+        found = self._letter_moves(world, i)
+        if self._has_trait(world[2][i] // FLAGS, "p"):
+            found.append((("put", i), self._put(world, i)))
+        return found
+
+    def _letter_moves(self, world, i):
+        """Like moves, but the wishes, answers and takes of cache i alone."""
         task, memory, cells = world
         number, flags = cells[i] // FLAGS, cells[i] % FLAGS
         found = []
@@ -128,8 +151,6 @@ class Worlds:
                     found.append((step, (task, given, replaced(cells, i, FLAGS * goal + owns))))
                 else:
                     found.append((step, self._begun(begun, given, cells, i, FLAGS * goal + owns + ASKS)))
-        if self._has_trait(number, "p"):
-            found.append((("put", i), self._put(world, i)))
         return found
 
     def _own_moves(self, number):
@@ -232,6 +253,40 @@ class Worlds:
         if key not in self._kept:
             self._kept[key] = self._rules.has_trait(self._known[number], trait)
         return self._kept[key]
+
+    def waits(self, cell):
+        """Whether the state of the cache waits."""
+        return self._has_trait(cell // FLAGS, "w")
+
+    def bare_cell(self, cell):
+        """The cell without any put, and without a flag for the owner."""
+        key = ("bare", cell)
+        if key not in self._kept:
+            self._kept[key] = FLAGS * self.number(blank(self._local(cell))) + (cell & ASKS)
+        return self._kept[key]
+
+    def lone_cells(self, cell, task):
+        """The bare cells to which an answer, or a take that begins no task, leads from one, but for jams."""
+        number, flags = cell // FLAGS, cell % FLAGS
+        goals = [goal for word, _, goal in self._own_moves(number) if word == "answer"]
+        if not flags & ASKS:
+            goals.extend([row[2] for row in self._takes(number, task, flags, "none") if row[1] is None])
+        return [FLAGS * goal + flags for goal in goals if goal is not None]
+
+    def begun_cells(self, cell):
+        """The tasks that begin by a take from a cache with a bare cell: (task, bare cell of the asker)."""
+        rows = self._takes(cell // FLAGS, None, cell % FLAGS, "none")
+        return [(begun, FLAGS * goal + ASKS) for _, begun, goal, _, _ in rows if begun is not None]
+
+    def bare_called(self, cell, task):
+        """The bare cell of another cache behind the beginning of the task; None for a jam."""
+        goal = self.number_called(cell // FLAGS, task, "none")
+        return None if goal is None else FLAGS * goal
+
+    def bare_ended(self, cell, task):
+        """The bare cell behind the end of the task; None for a jam, or if the mark is not quiet."""
+        goal = self._ended(cell, task, "none")
+        return None if goal in (None, "loud") else self.bare_cell(goal)
 
     def is_stale(self, cell):
         """Whether the cache may read what is not the last put."""

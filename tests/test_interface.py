@@ -5,7 +5,10 @@ import inspect
 import os
 import unittest
 
-from copybooks import basejudge, books, deciding, errors, moments, searches, viewjudge, views
+from copybooks import (
+    basejudge, bases, books, deciding, errors, families, halls, live, moments, resting, runtexts, searches, tables, texts,
+    viewjudge, views,
+)
 
 HERE = os.path.dirname(os.path.dirname(os.path.abspath(__file__)))
 
@@ -24,6 +27,27 @@ FUNCTIONS = {
         "harm": "(book, bag, *, most=3000)",
         "base_fault": "(book, thing, runs, *, most=2000)",
     },
+    "bases": {
+        "base": "(book, *, most=2000)", "cutoff": "(book, *, most=2000)", "greatest": "(book, *, most=2000)",
+        "verdict": "(moment, *, most=2000)", "bag_verdict": "(book, bag, *, most=2000)",
+        "family_cutoff": "(family, *, most=2000)",
+    },
+    "resting": {
+        "can_rest": "(moment, i, *, most=3000)", "restless": "(book, n, *, most=3000)",
+        "rests": "(book, *, caches=3, most=3000)",
+    },
+    "families": {
+        "sort_family": "(family, *, caches=3, most=3000)", "least_mends": "(family, *, caches=3, most=3000)",
+        "mends_paper": "(family, *, caches=3, most=3000)", "mends_fault": "(family, thing, papers)",
+    },
+    "halls": {"log_fault": "(thing)"},
+    "tables": {
+        "beside": "(book, *, most=3000)", "beside_run": "(book, pair, *, caches=3, most=3000)",
+        "beside_fault": "(book, pair, n, thing)", "needless": "(book, *, caches=3, most=3000)",
+        "used": "(book, *, most=3000)",
+    },
+    "texts": {"book_text": "(book)", "read_book": "(text)"},
+    "runtexts": {"run_text": "(run)", "read_run": "(text)"},
 }
 
 METHODS = {
@@ -36,6 +60,19 @@ METHODS = {
         "book": "(self)", "home": "(self)", "caches": "(self)", "steps": "(self)", "after": "(self, step)",
         "wrongs": "(self)", "__eq__": "(self, other)",
     }},
+    "families": {"Family": {
+        "__init__": "(self, book, choices)", "book": "(self, pick)", "picks": "(self)", "__contains__": "(self, pick)",
+        "__len__": "(self)",
+    }},
+    "halls": {"Hall": {
+        "__init__": "(self, book, n, lines)", "step": "(self, line, step)", "put": "(self, line, i, value)",
+        "read": "(self, line, i)", "moment": "(self, line)", "log": "(self)", "back": "(self)", "__len__": "(self)",
+    }},
+    "live": {"Live": {
+        "__init__": "(self, book, n)", "moment": "(self)", "step": "(self, step)", "back": "(self)", "wrongs": "(self)",
+        "rest": "(self, i)", "tried": "(self, action)", "__len__": "(self)", "__getitem__": "(self, index)",
+        "__iter__": "(self)",
+    }},
     "errors": {
         "NoBook": {"__init__": "(self, part, index)"}, "NoRun": {"__init__": "(self, index)"},
         "NoFamily": {"__init__": "(self, index)"}, "NoText": {"__init__": "(self, line)"},
@@ -44,8 +81,9 @@ METHODS = {
 }
 
 MODULES = {
-    "basejudge": basejudge, "books": books, "deciding": deciding, "errors": errors, "moments": moments,
-    "searches": searches, "viewjudge": viewjudge, "views": views,
+    "basejudge": basejudge, "bases": bases, "books": books, "deciding": deciding, "errors": errors, "families": families,
+    "halls": halls, "live": live, "moments": moments, "resting": resting, "runtexts": runtexts, "searches": searches,
+    "tables": tables, "texts": texts, "viewjudge": viewjudge, "views": views,
 }
 
 
@@ -72,6 +110,12 @@ class TestInterface(unittest.TestCase):
                 for method, signature in methods.items():
                     found = vars(getattr(MODULES[module], name))[method]
                     self.assertEqual(str(inspect.signature(found)), signature, (name, method))
+
+    def test_nothing_is_left_out(self):
+        # Every module that the document lists is here, with all its functions and classes.
+        self.assertEqual(sorted(MODULES), sorted({*FUNCTIONS, *METHODS}))
+        self.assertEqual(len(MODULES), 16)
+        self.assertEqual(sum(len(functions) for functions in FUNCTIONS.values()), 34)
 
     def test_errors_are_defined_in_their_file(self):
         names = {name for name, value in vars(errors).items() if inspect.isclass(value)}

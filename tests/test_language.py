@@ -176,6 +176,19 @@ class TestWords(LanguageCase):
                 if isinstance(node, ast.ClassDef):
                     self.assertTrue(name[0].isalpha())
 
+    def test_names_of_classes_and_imports(self):
+        for _, _, tree in self.each():
+            tops = {alias.name for node in tree.body if isinstance(node, ast.ImportFrom) for alias in node.names}
+            tops |= {node.name for node in tree.body if isinstance(node, ast.ClassDef)}
+            for node in ast.walk(tree):
+                if isinstance(node, ast.FunctionDef):
+                    inner = {name for part in node.body + [node.args] for name, _ in bound(part)}
+                    self.assertEqual(inner & tops, set(), node.name)
+
+    def test_words_beside_items_by_index(self):
+        for _, text, _ in self.each():
+            self.assertNotRegex(text, r"\(type\)|Meta|metaclass=")
+
     def test_builtins(self):
         for _, _, tree in self.each():
             for node in ast.walk(tree):
@@ -224,6 +237,27 @@ class TestStatements(LanguageCase):
                     self.assertNotIsInstance(node.value, (float, complex, bytes))
                 if isinstance(node, (ast.FunctionDef, ast.ClassDef)):
                     self.assertEqual(node.decorator_list, [])
+
+    def test_finally(self):
+        # Only names and attributes are assigned there, by names and attributes.
+        plain = (ast.Tuple, ast.Name, ast.Attribute, ast.Load, ast.Store)
+        for _, _, tree in self.each():
+            for node in ast.walk(tree):
+                for row in getattr(node, "finalbody", None) or []:
+                    self.assertIsInstance(row, ast.Assign)
+                    for inner in [one for part in row.targets + [row.value] for one in ast.walk(part)]:
+                        self.assertIsInstance(inner, plain)
+
+    def test_operators_change_nothing(self):
+        names = {"__contains__", "__getitem__", "__eq__", "__len__", "__iter__"}
+        for _, _, tree in self.each():
+            for node in ast.walk(tree):
+                if isinstance(node, ast.FunctionDef) and node.name in names:
+                    for inner in ast.walk(node):
+                        self.assertNotIsInstance(inner, (ast.Assign, ast.AugAssign, ast.Delete))
+                if isinstance(node, ast.ClassDef):
+                    own = {inner.name for inner in node.body if isinstance(inner, ast.FunctionDef)}
+                    self.assertTrue("__getitem__" not in own or "__iter__" in own)
 
     def test_is(self):
         for _, _, tree in self.each():
